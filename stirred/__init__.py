@@ -1,0 +1,1 @@
+"""Stirred: vessels whose contents are poured into one another."""

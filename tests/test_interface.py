@@ -1,0 +1,51 @@
+"""The interface: each name is defined where the document lists it."""
+
+import ast
+import unittest
+from pathlib import Path
+
+PACKAGE = Path(__file__).resolve().parent.parent / "stirred"
+
+FUNCTIONS = {"ratios": {"is_ratio": ["value"], "total": ["ratios"]}, "mixtures": {}}
+
+METHODS = {
+    "ratios": {"Ratio": {"__init__": ["self", "top", "bottom"], "top": ["self"], "bottom": ["self"],
+                         "__add__": ["self", "other"], "__sub__": ["self", "other"], "__mul__": ["self", "other"],
+                         "__eq__": ["self", "other"], "__neg__": ["self"], "is_less": ["self", "other"],
+                         "over": ["self", "other"]}},
+    "mixtures": {"Mixture": {"__init__": ["self", "amounts"], "__add__": ["self", "other"],
+                             "__mul__": ["self", "other"], "__contains__": ["self", "x"],
+                             "__eq__": ["self", "other"], "__len__": ["self"], "volume": ["self"],
+                             "substances": ["self"], "amount_of": ["self", "substance"],
+                             "share_of": ["self", "substance"]}},
+}
+
+
+def body_of(name):
+    return ast.parse((PACKAGE / f"{name}.py").read_text(encoding="utf-8")).body
+
+
+def functions_in(body):
+    """Return the names and the parameters of the functions that a body defines."""
+    return {node.name: [arg.arg for arg in node.args.args] for node in body if isinstance(node, ast.FunctionDef)}
+
+
+class Interface(unittest.TestCase):
+    def check(self, found, wanted):
+        for name in wanted:
+            with self.subTest(name):
+                self.assertEqual(found.get(name), wanted[name])
+
+    def test_functions(self):
+        for name in FUNCTIONS:
+            self.check(functions_in(body_of(name)), FUNCTIONS[name])
+
+    def test_methods_stand_in_the_class_itself(self):
+        for name in METHODS:
+            classes = {node.name: node for node in body_of(name) if isinstance(node, ast.ClassDef)}
+            for word in METHODS[name]:
+                self.check(functions_in(classes[word].body), METHODS[name][word])
+
+
+if __name__ == "__main__":
+    unittest.main()
