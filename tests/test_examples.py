@@ -1,4 +1,4 @@
-"""The examples of the document, as they stand there."""
+"""The examples of the document, as they stand there; ratios are compared where they would be written as text."""
 
 import doctest
 import unittest
@@ -22,6 +22,41 @@ POINT_13 = """
 [True, True]
 """
 
+POINT_14 = """
+>>> from stirred.ratios import Ratio
+>>> from stirred.vessels import contents_after, is_possible, shares_after, volumes_after
+>>> V, T = [3, 2], [(0, 1, 1), (1, 0, 1)]
+>>> [volumes_after(V, T[:1]), is_possible(V, [(0, 1, 3)])]
+[[2, 3], False]
+>>> contents_after(V, T) == [[Ratio(7, 3), Ratio(2, 3)], [Ratio(2, 3), Ratio(4, 3)]]
+True
+>>> shares_after(V, T) == [[Ratio(7, 9), Ratio(2, 9)], [Ratio(1, 3), Ratio(2, 3)]]
+True
+"""
+
+POINT_15 = """
+>>> from stirred.factors import determinant, factor_of, is_mixture_for, mixture_for
+>>> from stirred.ratios import Ratio
+>>> from stirred.vessels import shares_after
+>>> V, T = [3, 2], [(0, 1, 1), (1, 0, 1)]
+>>> rows = [[Ratio(1), Ratio(2)], [Ratio(2), Ratio(4)]]
+>>> [factor_of(V, T) == Ratio(4, 9), determinant(shares_after(V, T)) == Ratio(4, 9), determinant(rows) == Ratio(0)]
+[True, True, True]
+>>> [mixture_for(shares_after(V, T), 0), mixture_for(rows, 0) == [Ratio(0), Ratio(1, 2)], is_mixture_for(rows, 1, [Ratio(2), Ratio(0)])]
+[None, True, True]
+"""
+
+POINT_16 = """
+>>> from stirred.origins import is_origin, origin_of, poured
+>>> from stirred.ratios import Ratio
+>>> V, T = [3, 2], [(0, 1, 1), (1, 0, 1)]
+>>> pure, half = [[Ratio(3), Ratio(0)], [Ratio(0), Ratio(2)]], [[Ratio(3, 2), Ratio(3, 2)], [Ratio(1), Ratio(1)]]
+>>> poured(V, T, pure) == [[Ratio(7, 3), Ratio(2, 3)], [Ratio(2, 3), Ratio(4, 3)]]
+True
+>>> [origin_of(V, T, poured(V, T, pure)) == pure, origin_of(V, T, pure), origin_of(V, T, half) == half]
+[True, None, True]
+"""
+
 
 class Examples(unittest.TestCase):
     def check(self, name, text, many):
@@ -36,6 +71,15 @@ class Examples(unittest.TestCase):
 
     def test_point_13(self):
         self.check("point 13", POINT_13, 5)
+
+    def test_point_14(self):
+        self.check("point 14", POINT_14, 6)
+
+    def test_point_15(self):
+        self.check("point 15", POINT_15, 7)
+
+    def test_point_16(self):
+        self.check("point 16", POINT_16, 6)
 
 
 if __name__ == "__main__":

@@ -6,7 +6,18 @@ from pathlib import Path
 
 PACKAGE = Path(__file__).resolve().parent.parent / "stirred"
 
-FUNCTIONS = {"ratios": {"is_ratio": ["value"], "total": ["ratios"]}, "mixtures": {}}
+OF_TRANSFERS = ["volumes", "transfers"]
+
+FUNCTIONS = {
+    "ratios": {"is_ratio": ["value"], "total": ["ratios"]},
+    "vessels": {"is_volumes": ["value"], "is_transfers": ["value"], "is_possible": OF_TRANSFERS,
+                "volumes_after": OF_TRANSFERS, "contents_after": OF_TRANSFERS, "shares_after": OF_TRANSFERS,
+                "walk_contents": OF_TRANSFERS},
+    "factors": {"factor_of": OF_TRANSFERS, "determinant": ["rows"], "mixture_for": ["rows", "vessel"],
+                "is_mixture_for": ["rows", "vessel", "value"]},
+    "origins": {"poured": OF_TRANSFERS + ["contents"], "origin_of": OF_TRANSFERS + ["contents"],
+                "is_origin": OF_TRANSFERS + ["contents", "value"]},
+}
 
 METHODS = {
     "ratios": {"Ratio": {"__init__": ["self", "top", "bottom"], "top": ["self"], "bottom": ["self"],
