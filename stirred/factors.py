@@ -1,10 +1,9 @@
 """Factors: by how much transfers mix, and which row is a mixture of other ones."""
 
-from stirred.checks import is_whole_within
-from stirred.errors import InvalidRowsError, InvalidVesselError
+from stirred.errors import InvalidRowsError
 from stirred.ratios import Ratio, is_ratio, total
 from stirred.rows import is_rows
-from stirred.vessels import volumes_by_step
+from stirred.vessels import check_vessel, volumes_by_step
 
 
 def factor_of(volumes, transfers):
@@ -37,7 +36,7 @@ def determinant(rows):
 def mixture_for(rows, vessel):
     """Return a mixture of the other rows for one row, or None if there is none."""
     _check_rows(rows)
-    _check_vessel(vessel, rows)
+    check_vessel(vessel, len(rows))
     # One equation for each place in the rows: the unknown multiples of the rows, then what they add up to.
     others = [row if index != vessel else [Ratio(0)] * len(row) for index, row in enumerate(rows)]
     equations = [[row[place] for row in others + [rows[vessel]]] for place in range(len(rows[0]))]
@@ -47,7 +46,7 @@ def mixture_for(rows, vessel):
 def is_mixture_for(rows, vessel, value):
     """Return whether any value is a mixture of the other rows for one row."""
     _check_rows(rows)
-    _check_vessel(vessel, rows)
+    check_vessel(vessel, len(rows))
     if type(value) is not list or len(value) != len(rows) or not all([is_ratio(part) for part in value]):
         return False
     mixed = [total([row[place] * part for row, part in zip(rows, value)]) for place in range(len(rows[0]))]
@@ -96,9 +95,3 @@ def _check_rows(rows):
     """Raise an error unless a value is rows."""
     if not is_rows(rows):
         raise InvalidRowsError("rows are 1 to 8 lists of equally many ratios, 1 to 8 of them")
-
-
-def _check_vessel(vessel, rows):
-    """Raise an error unless a value is the index of a row."""
-    if not is_whole_within(vessel, 0, len(rows) - 1):
-        raise InvalidVesselError("the vessel is not the index of a row")

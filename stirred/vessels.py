@@ -1,7 +1,8 @@
 """Vessels: their volumes, the transfers between them, and what they hold behind these."""
 
 from stirred.checks import is_list_within, is_whole_within
-from stirred.errors import InvalidTransfersError, InvalidVolumesError, TooMuchError
+from stirred.errors import (InvalidGroupError, InvalidTransfersError, InvalidVesselError, InvalidVolumesError,
+                            TooMuchError)
 from stirred.ratios import Ratio
 from stirred.rows import copy_of, moved, moved_by_all
 
@@ -25,6 +26,11 @@ def is_transfer(value):
     if not all([is_whole_within(vessel, 0, MOST_VESSELS - 1) for vessel in [giver, taker]]):
         return False
     return giver != taker and is_whole_within(amount, 1, MOST_DROPS)
+
+
+def is_transfer_between(value, many):
+    """Return whether any value is a transfer between two of so many vessels."""
+    return is_transfer(value) and value[0] < many and value[1] < many
 
 
 def is_transfers(value):
@@ -72,17 +78,23 @@ def walk_contents(volumes, transfers):
 
 def volumes_by_step(volumes, transfers):
     """Return the list of the volumes ahead of each transfer and behind the last one, if they are possible."""
-    _check_volumes(volumes)
-    _check_transfers(transfers, len(volumes))
+    check_volumes(volumes)
+    _check_transfers_between(transfers, len(volumes))
     steps = [list(volumes)]
-    for index, (giver, taker, amount) in enumerate(transfers):
-        now = list(steps[-1])
-        if amount >= now[giver]:
-            raise TooMuchError(index)
-        now[giver] = now[giver] - amount
-        now[taker] = now[taker] + amount
-        steps.append(now)
+    for index, transfer in enumerate(transfers):
+        steps.append(volumes_behind(steps[-1], transfer, index))
     return steps
+
+
+def volumes_behind(volumes, transfer, index):
+    """Return the volumes behind one transfer, which has this index among all that are done."""
+    giver, taker, amount = transfer
+    if amount >= volumes[giver]:
+        raise TooMuchError(index)
+    after = list(volumes)
+    after[giver] = volumes[giver] - amount
+    after[taker] = volumes[taker] + amount
+    return after
 
 
 def moves_of(volumes, transfers):
@@ -91,21 +103,45 @@ def moves_of(volumes, transfers):
     return [(giver, taker, Ratio(amount, now[giver])) for now, (giver, taker, amount) in zip(steps, transfers)]
 
 
+def are_different_vessels(values, many):
+    """Return whether the items of a list or a tuple are vessels out of so many, none of them twice."""
+    if not all([is_whole_within(value, 0, many - 1) for value in values]):
+        return False
+    return len(set(values)) == len(values)
+
+
+def check_volumes(volumes):
+    """Raise an error unless a value is volumes."""
+    if not is_volumes(volumes):
+        raise InvalidVolumesError("volumes are a list of 1 to 8 integers from 1 to a million")
+
+
+def check_transfers(transfers):
+    """Raise an error unless a value is transfers, between any vessels."""
+    if not is_transfers(transfers):
+        raise InvalidTransfersError("transfers are a list of 0 to 24 tuples of giver, taker and amount")
+
+
+def check_vessel(vessel, many):
+    """Raise an error unless a value is one of so many vessels."""
+    if not is_whole_within(vessel, 0, many - 1):
+        raise InvalidVesselError("the vessel is not there")
+
+
+def check_group(group, many):
+    """Raise an error unless a value is a list of different vessels out of so many."""
+    if type(group) is not list or not are_different_vessels(group, many):
+        raise InvalidGroupError("a group is a list of different vessels")
+
+
 def _contents_at_first(volumes):
     """Return the contents of vessels that hold a substance of their own each."""
     vessels = range(len(volumes))
     return [[Ratio(volumes[vessel] if substance == vessel else 0) for substance in vessels] for vessel in vessels]
 
 
-def _check_volumes(volumes):
-    """Raise an error unless a value is volumes."""
-    if not is_volumes(volumes):
-        raise InvalidVolumesError("volumes are a list of 1 to 8 integers from 1 to a million")
-
-
-def _check_transfers(transfers, many):
+def _check_transfers_between(transfers, many):
     """Raise an error unless a value is transfers between so many vessels."""
-    if not is_transfers(transfers):
-        raise InvalidTransfersError("transfers are a list of 0 to 24 tuples of giver, taker and amount")
-    if not all([transfer[0] < many and transfer[1] < many for transfer in transfers]):
+    check_transfers(transfers)
+    if not all([is_transfer_between(transfer, many) for transfer in transfers]):
         raise InvalidTransfersError("a transfer names a vessel that is not there")

@@ -37,6 +37,27 @@ def case(seed, vessels, many, most):
     return volumes, transfers
 
 
+def closed_case(seed, vessels, many, most):
+    """Return volumes, and transfers behind which all volumes are as at first."""
+    volumes, transfers = case(seed, vessels, many, most)
+    now = volumes_behind(volumes, transfers)
+    while now != volumes:
+        giver = max(range(vessels), key=lambda k: now[k] - volumes[k])
+        taker = min(range(vessels), key=lambda k: now[k] - volumes[k])
+        amount = min(now[giver] - volumes[giver], volumes[taker] - now[taker], MILLION)
+        transfers.append((giver, taker, amount))
+        now = volumes_behind(volumes, transfers)
+    return volumes, transfers
+
+
+def volumes_behind(volumes, transfers):
+    now = list(volumes)
+    for giver, taker, amount in transfers:
+        now[giver] -= amount
+        now[taker] += amount
+    return now
+
+
 CASES = [case(seed, 1 + seed % 8, seed * 7 % 25, (2, 5, 30, 1000, MILLION)[seed % 5]) for seed in range(60)]
 
 LONGEST = [case(seed, 8, 24, most) for seed, most in [(101, 9), (102, 1000), (103, MILLION)]]
@@ -47,13 +68,8 @@ GREATEST = ([MILLION] * 8, [(k, 7, MILLION - 1) for k in range(7)] + [(7, k, MIL
 
 ALL = CASES + LONGEST + [GREATEST]
 
-
-def volumes_behind(volumes, transfers):
-    now = list(volumes)
-    for giver, taker, amount in transfers:
-        now[giver] -= amount
-        now[taker] += amount
-    return now
+CLOSED = [closed_case(seed, 1 + seed % 8, seed * 5 % 18, (2, 5, 30, 1000, MILLION)[seed % 5]) for seed in range(40)] + [
+    closed_case(seed, 8, 17, most) for seed, most in [(201, 3), (202, 1000), (203, MILLION)]]
 
 
 def shares_behind(volumes, transfers):
@@ -94,3 +110,43 @@ def determinant_of(rows):
         turns = sum(order[i] > order[k] for i in range(len(order)) for k in range(i + 1, len(order)))
         found += -product if turns % 2 else product
     return found
+
+
+def free(one, other):
+    """Return whether two transfers are free, in the words of the document."""
+    (i, j, t), (k, l, s) = one, other
+    return j != k and i != l
+
+
+def all_alike(transfers):
+    """Return all lists that exchanges of free neighbors make of a list, in list order."""
+    seen, open_ones = {tuple(transfers)}, [tuple(transfers)]
+    while open_ones:
+        word = open_ones.pop()
+        for k in range(len(word) - 1):
+            if free(word[k], word[k + 1]):
+                other = word[:k] + (word[k + 1], word[k]) + word[k + 2:]
+                if other not in seen:
+                    seen.add(other)
+                    open_ones.append(other)
+    return [list(word) for word in sorted(seen)]
+
+
+def some_list(seed, length, vessels, most=2):
+    """Return a list of transfers between so many vessels with amounts up to a most one."""
+    numbers, found = Numbers(seed), []
+    while len(found) < length:
+        giver, taker = numbers.below(vessels), numbers.below(vessels)
+        if giver != taker:
+            found.append((giver, taker, numbers.between(1, most)))
+    return found
+
+
+def walked(seed, transfers, steps):
+    """Return a list behind many exchanges of free neighbors."""
+    numbers, word = Numbers(seed), list(transfers)
+    for _ in range(steps if len(word) > 1 else 0):
+        k = numbers.below(len(word) - 1)
+        if free(word[k], word[k + 1]):
+            word[k:k + 2] = word[k + 1], word[k]
+    return word

@@ -57,6 +57,35 @@ True
 [True, None, True]
 """
 
+POINT_17 = """
+>>> from stirred.exchange import are_rings, foreign_in, is_closed, rings_of
+>>> from stirred.ratios import Ratio
+>>> V, T = [2, 2, 2], [(0, 1, 1), (1, 2, 1), (2, 0, 1)]
+>>> [is_closed(V, T), foreign_in(V, T, [0]) == (Ratio(8, 9), Ratio(8, 9)), foreign_in(V, T[:1], [1]) == (Ratio(1), Ratio(0))]
+[True, True, True]
+>>> rings = [((0, 1, 2), Ratio(4, 9)), ((0, 1), Ratio(2, 9)), ((0, 2), Ratio(2, 9))]
+>>> [are_rings(V, T, rings), are_rings(V, T, rings[:2]), are_rings(V, T, rings_of(V, T))]
+[True, False, True]
+"""
+
+POINT_18 = """
+>>> from stirred.spread import brought_by, fewest_for_all, plan_for_all, substances_in
+>>> V, T = [2, 2, 2], [(0, 1, 1), (1, 2, 1)]
+>>> [substances_in(V, T), brought_by(V, T, 2, 0), brought_by(V, T, 0, 1), fewest_for_all(3)]
+[[[0], [0, 1], [0, 1, 2]], 1, None, 4]
+>>> [len(plan_for_all(V)), substances_in(V, plan_for_all(V))]
+[4, [[0, 1, 2], [0, 1, 2], [0, 1, 2]]]
+"""
+
+POINT_20 = """
+>>> from stirred.alike import alike_rank, are_alike, are_free, count_alike, layers_of, least_alike, nth_alike
+>>> T = [(2, 3, 1), (0, 1, 1), (1, 2, 1)]
+>>> [are_free(T[0], T[1]), are_free(T[1], T[2]), layers_of(T), count_alike(T), alike_rank(T)]
+[True, False, [[(0, 1, 1), (2, 3, 1)], [(1, 2, 1)]], 2, 1]
+>>> [nth_alike(T, 0) == least_alike(T), least_alike(T), are_alike(T, T[::-1])]
+[True, [(0, 1, 1), (2, 3, 1), (1, 2, 1)], False]
+"""
+
 
 class Examples(unittest.TestCase):
     def check(self, name, text, many):
@@ -80,6 +109,15 @@ class Examples(unittest.TestCase):
 
     def test_point_16(self):
         self.check("point 16", POINT_16, 6)
+
+    def test_point_17(self):
+        self.check("point 17", POINT_17, 6)
+
+    def test_point_18(self):
+        self.check("point 18", POINT_18, 4)
+
+    def test_points_19_and_20(self):
+        self.check("points 19 and 20", POINT_20, 4)
 
 
 if __name__ == "__main__":

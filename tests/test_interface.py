@@ -17,6 +17,13 @@ FUNCTIONS = {
                 "is_mixture_for": ["rows", "vessel", "value"]},
     "origins": {"poured": OF_TRANSFERS + ["contents"], "origin_of": OF_TRANSFERS + ["contents"],
                 "is_origin": OF_TRANSFERS + ["contents", "value"]},
+    "exchange": {"foreign_in": OF_TRANSFERS + ["group"], "is_closed": OF_TRANSFERS, "rings_of": OF_TRANSFERS,
+                 "are_rings": OF_TRANSFERS + ["value"]},
+    "spread": {"substances_in": OF_TRANSFERS, "plan_for_all": ["volumes"], "fewest_for_all": ["vessels"],
+               "brought_by": OF_TRANSFERS + ["vessel", "substance"]},
+    "alike": {"are_free": ["one", "other"], "are_alike": ["transfers", "other"], "layers_of": ["transfers"],
+              "least_alike": ["transfers"], "nth_alike": ["transfers", "index"], "count_alike": ["transfers"],
+              "alike_rank": ["transfers"]},
 }
 
 METHODS = {
