@@ -1,4 +1,4 @@
-"""The examples of the document, as they stand there; ratios are compared where they would be written as text."""
+"""The examples of the document, as they stand there."""
 
 import doctest
 import unittest
@@ -23,15 +23,11 @@ POINT_13 = """
 """
 
 POINT_14 = """
->>> from stirred.ratios import Ratio
+>>> from stirred.text import format_rows
 >>> from stirred.vessels import contents_after, is_possible, shares_after, volumes_after
 >>> V, T = [3, 2], [(0, 1, 1), (1, 0, 1)]
->>> [volumes_after(V, T[:1]), is_possible(V, [(0, 1, 3)])]
-[[2, 3], False]
->>> contents_after(V, T) == [[Ratio(7, 3), Ratio(2, 3)], [Ratio(2, 3), Ratio(4, 3)]]
-True
->>> shares_after(V, T) == [[Ratio(7, 9), Ratio(2, 9)], [Ratio(1, 3), Ratio(2, 3)]]
-True
+>>> [volumes_after(V, T[:1]), format_rows(contents_after(V, T)), format_rows(shares_after(V, T)), is_possible(V, [(0, 1, 3)])]
+[[2, 3], ['7/3 2/3', '2/3 4/3'], ['7/9 2/9', '1/3 2/3'], False]
 """
 
 POINT_15 = """
@@ -49,12 +45,11 @@ POINT_15 = """
 POINT_16 = """
 >>> from stirred.origins import is_origin, origin_of, poured
 >>> from stirred.ratios import Ratio
+>>> from stirred.text import format_rows
 >>> V, T = [3, 2], [(0, 1, 1), (1, 0, 1)]
 >>> pure, half = [[Ratio(3), Ratio(0)], [Ratio(0), Ratio(2)]], [[Ratio(3, 2), Ratio(3, 2)], [Ratio(1), Ratio(1)]]
->>> poured(V, T, pure) == [[Ratio(7, 3), Ratio(2, 3)], [Ratio(2, 3), Ratio(4, 3)]]
-True
->>> [origin_of(V, T, poured(V, T, pure)) == pure, origin_of(V, T, pure), origin_of(V, T, half) == half]
-[True, None, True]
+>>> [format_rows(poured(V, T, pure)), origin_of(V, T, poured(V, T, pure)) == pure, origin_of(V, T, pure), origin_of(V, T, half) == half]
+[['7/3 2/3', '2/3 4/3'], True, None, True]
 """
 
 POINT_17 = """
@@ -86,6 +81,44 @@ POINT_20 = """
 [True, [(0, 1, 1), (2, 3, 1), (1, 2, 1)], False]
 """
 
+POINT_21 = """
+>>> from stirred.pairs import difference_after, plan_for
+>>> from stirred.ratios import Ratio
+>>> V, T = [3, 2], [(0, 1, 1), (1, 0, 1)]
+>>> [difference_after(V, T) == Ratio(4, 9), plan_for(V, Ratio(4, 9)), plan_for(V, Ratio(1, 2))]
+[True, (1, 1), (7, 6)]
+"""
+
+POINT_23 = """
+>>> from stirred.labs import CappedSealedLab, Lab
+>>> from stirred.ratios import Ratio
+>>> lab = Lab([3, 2])
+>>> [lab.pour(0, 1, 1), lab.pour(1, 0, 1), lab.factor == Ratio(4, 9), lab.tried((0, 1, 2)), lab.holds(0).share_of(1) == Ratio(2, 9)]
+[3, 3, True, [1, 4], True]
+>>> [lab.undo(), lab.volumes, lab.done, len(lab), CappedSealedLab([3, 2, 1], 5, [2]).described()]
+[None, [2, 3], [(0, 1, 1)], 1, ['vessels 3', 'cap 5', 'sealed 1']]
+"""
+
+POINT_24 = """
+>>> from stirred.labs import Lab
+>>> from stirred.trials import Trial, passed, volumes_in_trial
+>>> lab = Lab([3, 2])
+>>> trial = Trial(lab)
+>>> [trial.begin() == lab, lab.pour(0, 1, 2), trial.finish(), lab.volumes]
+[True, 4, [(0, 1, 2)], [3, 2]]
+>>> [volumes_in_trial(lab, [(0, 1, 1), (1, 0, 2)]), passed(lab, [(0, 1, 2), (0, 1, 1)]), len(lab)]
+[[4, 1], 1, 0]
+"""
+
+POINT_25 = """
+>>> from stirred.ratios import Ratio
+>>> from stirred.text import format_ratio, format_transfers, parse_ratio, parse_transfers, table_of
+>>> [format_ratio(Ratio(-6, 4)), parse_ratio("7/3") == Ratio(7, 3), format_transfers([(0, 1, 12)]), parse_transfers("0>1:1 1>0:2")]
+['-3/2', True, '0>1:12', [(0, 1, 1), (1, 0, 2)]]
+>>> table_of([3, 2], [(0, 1, 1), (1, 0, 1)])
+[' 0  0  1       1       2       3', ' 1  1  0       1       2       3']
+"""
+
 
 class Examples(unittest.TestCase):
     def check(self, name, text, many):
@@ -102,7 +135,7 @@ class Examples(unittest.TestCase):
         self.check("point 13", POINT_13, 5)
 
     def test_point_14(self):
-        self.check("point 14", POINT_14, 6)
+        self.check("point 14", POINT_14, 4)
 
     def test_point_15(self):
         self.check("point 15", POINT_15, 7)
@@ -118,6 +151,18 @@ class Examples(unittest.TestCase):
 
     def test_points_19_and_20(self):
         self.check("points 19 and 20", POINT_20, 4)
+
+    def test_point_21(self):
+        self.check("point 21", POINT_21, 4)
+
+    def test_points_22_and_23(self):
+        self.check("points 22 and 23", POINT_23, 5)
+
+    def test_point_24(self):
+        self.check("point 24", POINT_24, 6)
+
+    def test_point_25(self):
+        self.check("point 25", POINT_25, 4)
 
 
 if __name__ == "__main__":

@@ -20,7 +20,7 @@ OPEN = [([3, 2], [(0, 1, 1)]), (VVV, TTT[:2]), ([3, 2], [(0, 1, 1), (1, 0, 2)]),
         ([2, 3], [(1, 0, 1)])]
 
 # No groups of two vessels.
-WRONG_GROUPS = [value for value in NO_LISTS if value != {3: 2}] + [
+WRONG_GROUPS = NO_LISTS + [
     {0: 1}, (0,), (0, 1), {0}, range(2), "0", [2], [0, 2], [-1], [0, -1], [0, 0], [1, 1], [0, 1, 0], [0, 1, 1], [0] * 400,
     [7], [8], [10 ** 30], [[0]], [(0,)], [[0, 1]], [0, [1]], [0, None], ["0"], [Anything()], ListBelow([0]), nested(20),
     nested(5000)] + [[value] for value in NOT_INTEGERS] + [[0, value] for value in NOT_INTEGERS] + [

@@ -24,6 +24,10 @@ FUNCTIONS = {
     "alike": {"are_free": ["one", "other"], "are_alike": ["transfers", "other"], "layers_of": ["transfers"],
               "least_alike": ["transfers"], "nth_alike": ["transfers", "index"], "count_alike": ["transfers"],
               "alike_rank": ["transfers"]},
+    "pairs": {"difference_after": OF_TRANSFERS, "plan_for": ["volumes", "wanted"]},
+    "trials": {"volumes_in_trial": ["lab", "transfers"], "passed": ["lab", "transfers"]},
+    "text": {"format_ratio": ["ratio"], "format_transfers": ["transfers"], "format_rows": ["rows"],
+             "table_of": OF_TRANSFERS, "parse_ratio": ["text"], "parse_transfers": ["text"]},
 }
 
 METHODS = {
@@ -36,8 +40,16 @@ METHODS = {
                              "__eq__": ["self", "other"], "__len__": ["self"], "volume": ["self"],
                              "substances": ["self"], "amount_of": ["self", "substance"],
                              "share_of": ["self", "substance"]}},
+    "labs": {"Lab": {"__init__": ["self", "volumes"], "pour": ["self", "giver", "taker", "amount"], "undo": ["self"],
+                     "tried": ["self"], "holds": ["self", "vessel"], "twin": ["self"], "described": ["self"],
+                     "first_volumes": ["self"], "volumes": ["self"], "done": ["self"], "factor": ["self"],
+                     "__len__": ["self"], "__eq__": ["self", "other"]},
+             "CappedLab": {"__init__": ["self", "volumes", "cap"], "described": ["self"]},
+             "SealedLab": {"__init__": ["self", "volumes", "sealed"], "described": ["self"]},
+             "CappedSealedLab": {"__init__": ["self", "volumes", "cap", "sealed"]}},
+    "trials": {"Trial": {"__init__": ["self", "lab"], "begin": ["self"], "finish": ["self"], "__enter__": ["self"],
+                         "__exit__": ["self", "kind", "value", "trace"]}},
 }
-
 
 def body_of(name):
     return ast.parse((PACKAGE / f"{name}.py").read_text(encoding="utf-8")).body
@@ -63,6 +75,20 @@ class Interface(unittest.TestCase):
             classes = {node.name: node for node in body_of(name) if isinstance(node, ast.ClassDef)}
             for word in METHODS[name]:
                 self.check(functions_in(classes[word].body), METHODS[name][word])
+
+    def test_the_star_of_tried(self):
+        lab = [node for node in body_of("labs") if isinstance(node, ast.ClassDef) and node.name == "Lab"][0]
+        tried = [node for node in lab.body if isinstance(node, ast.FunctionDef) and node.name == "tried"][0]
+        self.assertEqual(tried.args.vararg.arg, "transfers")
+
+    def test_properties(self):
+        for name, word, wanted in [("ratios", "Ratio", ["bottom", "top"]),
+                                   ("mixtures", "Mixture", ["substances", "volume"]),
+                                   ("labs", "Lab", ["done", "factor", "first_volumes", "volumes"])]:
+            node = [node for node in body_of(name) if isinstance(node, ast.ClassDef) and node.name == word][0]
+            found = [method.name for method in node.body if isinstance(method, ast.FunctionDef) and any(
+                isinstance(sign, ast.Name) and sign.id == "property" for sign in method.decorator_list)]
+            self.assertEqual(sorted(found), wanted)
 
 
 if __name__ == "__main__":

@@ -19,7 +19,8 @@ ALLOWED_BUILTINS = set("""
 # Generator expressions: beside classes with an == of their own, any, all and their kin take lists.
 BARRED = (ast.AsyncFunctionDef, ast.Await, ast.Div, ast.MatMult, ast.Import, ast.GeneratorExp)
 
-INTERFACE_FILES = ["errors", "ratios", "mixtures", "vessels", "factors", "origins", "exchange", "spread", "alike"]
+INTERFACE_FILES = ["errors", "ratios", "mixtures", "vessels", "factors", "origins", "exchange", "spread", "alike",
+                   "pairs", "labs", "trials", "text"]
 
 
 def files():
